@@ -1,0 +1,1 @@
+"""A street without end whose houses are all alike but a few."""
