@@ -1,5 +1,8 @@
 """What several tests are made of: things of every kind, names, sorts and streets."""
 
+import random
+import re
+
 from likehouses.streets import Sort, Street
 
 LETTERS = "abcdefghijklmnopqrstuvwxyz"
@@ -88,3 +91,68 @@ def numbered(number):
 def odd_street(first, many):
     """A street whose many odd houses, like its sides, are all unlike."""
     return Street(small(), first, [numbered(k) for k in range(many)], middle())
+
+
+NAMES = ["a", "abcdefgh", "zzzzzzzz", "room", "door", "house", "odd", "first", "left", "right"]
+
+# Of these none is a name, whatever it is asked for.
+NO_NAMES = [None, True, False, 0, 1, -7, "", " ", "abcdefghi", "Gate", "gatE", "ga te", "gate ", " gate", "gate1",
+            "-", "a\n", "\n", "a,b", ["gate"], ("gate",), [], (), {}, {"gate": 1}, [["gate"]], ("gate", 1)]
+
+
+class Doors:
+    """The doors that are there, by the words of point 11 alone, for searches."""
+
+    def __init__(self, street):
+        self.street = street
+        self.kept = {}
+
+    def sort(self, house):
+        """The rooms and doors of a house's sort."""
+        first, many = self.street.first(), len(self.street)
+        near = first - 1 if house < first else min(house, first + many)
+        if near not in self.kept:
+            sort = self.street.sort_at(near)
+            self.kept[near] = (sort.rooms(), sort.doors())
+        return self.kept[near]
+
+    def rooms(self, house):
+        return self.sort(house)[0]
+
+    def there(self, house, room):
+        """Pairs of a door's name and ((house, room) behind it, price), of the doors that are there."""
+        return [(name, ((house + move, goal), price)) for name, start, move, goal, price in self.sort(house)[1]
+                if start == room and goal in self.rooms(house + move)]
+
+    def why_not(self, house, room, step):
+        """Why a step can't be done, None where it can."""
+        if not (type(step) is str and re.fullmatch("[a-z]{1,8}", step)):
+            return "form"
+        doors = [door for door in self.sort(house)[1] if door[0] == step]
+        if not doors:
+            return "door"
+        if doors[0][1] != room:
+            return "room"
+        return None if step in dict(self.there(house, room)) else "goal"
+
+
+def chance_sort(chance, names, most_doors):
+    """A sort of some of these rooms, with doors by chance, some of them to rooms that it hasn't."""
+    rooms = chance.sample(names, chance.randint(1, min(6, len(names))))
+    many = chance.randint(0, most_doors)
+    return Sort(rooms, [("d" + LETTERS[k], chance.choice(rooms), chance.choice([-1, 0, 1]), chance.choice(names),
+                         chance.randint(1, 99)) for k in range(many)])
+
+
+def chance_street(seed, rooms=4, most_doors=12, most_odd=4):
+    """A street by chance, the same for the same seed; rooms is of how many names its sorts are."""
+    chance = random.Random(seed)
+    names = chance.sample(list(LETTERS), rooms)
+    sorts = [chance_sort(chance, names, most_doors) for _ in range(2 + chance.randint(0, most_odd))]
+    return Street(sorts[0], chance.randint(-50, 50), sorts[1:-1], sorts[-1])
+
+
+def houses_about(street):
+    """Houses near and far: the odd ones, those next to them, and some far off on both sides."""
+    first, behind = street.first(), street.first() + len(street)
+    return [*range(first - 3, behind + 3), first - 40, behind + 40, 10 ** 12 - 1, -10 ** 12 + 1]

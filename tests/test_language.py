@@ -23,6 +23,10 @@ CALLED = set("""len range enumerate zip min max sum abs sorted reversed int str 
     classmethod print Exception ValueError TypeError KeyError IndexError LookupError ZeroDivisionError
     ArithmeticError OverflowError RuntimeError NotImplementedError AttributeError StopIteration
     NotImplemented""".split())
+METHODS = set("""append clear copy count endswith extend find get index insert isalnum isalpha isdigit islower isspace
+    isupper items join keys ljust lower lstrip partition pop remove replace reverse rfind rjust rpartition rsplit rstrip
+    setdefault split splitlines startswith strip update upper values zfill bit_length add discard""".split())
+WHOLE_LISTS = {"any", "all", "min", "max", "sum", "sorted"}
 BARRED = (ast.AsyncFunctionDef, ast.AsyncFor, ast.AsyncWith, ast.Await, ast.Import)
 BARRED_WORDS = re.compile(r"\b(type|typing|enum|Enum|Generic|Protocol|ABC|namedtuple|NamedTuple|_wall|_WallAttr)\b"
                           r"|dataclass|overload|contextmanager")
@@ -57,6 +61,15 @@ def bound_names(tree):
             yield node.name
         if isinstance(node, ast.alias):
             yield node.asname or node.name
+
+
+def imports():
+    """What files import from the package's own: (file, module, name), without likehouses and .py."""
+    for name, tree in trees():
+        for node in ast.walk(tree):
+            if isinstance(node, ast.ImportFrom) and node.module.startswith("likehouses."):
+                for one in node.names:
+                    yield name[:-3], node.module.partition(".")[2], one.name
 
 
 class Language(unittest.TestCase):
@@ -117,6 +130,37 @@ class Language(unittest.TestCase):
         for name, tree in trees():
             used = {node.id for node in ast.walk(tree) if isinstance(node, ast.Name)}
             self.assertEqual(sorted(used & set(dir(builtins)) - CALLED), [], name)
+
+    def test_each_name_is_imported_from_the_file_that_defines_it(self):
+        defined = {name[:-3]: {node.name if hasattr(node, "name") else node.targets[0].id for node in tree.body
+                               if isinstance(node, (ast.FunctionDef, ast.ClassDef, ast.Assign))}
+                   for name, tree in trees()}
+        for name, module, word in imports():
+            self.assertIn(word, defined[module], (name, module))
+
+    def test_no_two_files_import_from_each_other(self):
+        needs = {}
+        for name, module, _ in imports():
+            needs.setdefault(name, set()).add(module)
+        while needs:
+            free = [name for name in needs if not needs[name] & set(needs)]
+            self.assertNotEqual(free, [], needs)
+            for name in free:
+                del needs[name]
+
+    def test_methods_of_builtin_values(self):
+        own = {node.name for _, tree in trees() for node in ast.walk(tree) if isinstance(node, ast.FunctionDef)}
+        for name, tree in trees():
+            for node in ast.walk(tree):
+                if isinstance(node, ast.Call) and isinstance(node.func, ast.Attribute):
+                    self.assertIn(node.func.attr, METHODS | own | {"__init__"}, name)
+
+    def test_lists_for_generator_expressions(self):
+        # Street has an __eq__ and a __len__ of its own, so L7 asks for lists here.
+        for name, tree in trees():
+            for node in ast.walk(tree):
+                if isinstance(node, ast.Call) and isinstance(node.func, ast.Name) and node.func.id in WHOLE_LISTS:
+                    self.assertFalse(any(isinstance(given, ast.GeneratorExp) for given in node.args), name)
 
 
 if __name__ == "__main__":
