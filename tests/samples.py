@@ -106,6 +106,7 @@ class Doors:
     def __init__(self, street):
         self.street = street
         self.kept = {}
+        self.doors = {}
 
     def sort(self, house):
         """The rooms and doors of a house's sort."""
@@ -121,8 +122,12 @@ class Doors:
 
     def there(self, house, room):
         """Pairs of a door's name and ((house, room) behind it, price), of the doors that are there."""
-        return [(name, ((house + move, goal), price)) for name, start, move, goal, price in self.sort(house)[1]
-                if start == room and goal in self.rooms(house + move)]
+        # Two houses out on a side all are alike, the next ones, too.
+        near = max(self.street.first() - 2, min(house, self.street.first() + len(self.street) + 1))
+        if (near, room) not in self.doors:
+            self.doors[near, room] = [(name, move, goal, price) for name, start, move, goal, price in self.sort(near)[1]
+                                      if start == room and goal in self.rooms(near + move)]
+        return [(name, ((house + move, goal), price)) for name, move, goal, price in self.doors[near, room]]
 
     def why_not(self, house, room, step):
         """Why a step can't be done, None where it can."""
@@ -156,3 +161,56 @@ def houses_about(street):
     """Houses near and far: the odd ones, those next to them, and some far off on both sides."""
     first, behind = street.first(), street.first() + len(street)
     return [*range(first - 3, behind + 3), first - 40, behind + 40, 10 ** 12 - 1, -10 ** 12 + 1]
+
+
+def changed(thing, change):
+    """All things like this one with one part of it, or itself, changed: change tells what may stand for a part."""
+    yield from change(thing)
+    if isinstance(thing, (list, tuple)):
+        for k, part in enumerate(thing):
+            for other in changed(part, change):
+                yield type(thing)([*thing[:k], other, *thing[k + 1:]])
+
+
+def other_forms(thing):
+    """A list for a tuple, a tuple for a list, a part more, a part less, twice."""
+    if isinstance(thing, (list, tuple)):
+        kind = type(thing)
+        yield (list if kind is tuple else tuple)(thing)
+        yield dict(enumerate(thing))
+        yield kind([*thing, *thing])
+        yield kind([*thing, None])
+        for k in range(len(thing)):
+            yield kind([*thing[:k], *thing[k + 1:]])
+            yield kind([*thing[:k], thing[k], *thing[k:]])
+
+
+def any_things(_):
+    return things()
+
+
+def lots_found(street, stand, low, high, nearer=45):
+    """The lots of houses low to high, by a search through all stands, also this much further on both sides."""
+    doors, house = Doors(street), stand[0]
+    least = min(low, house, street.first() - 1) - nearer
+    most = max(high, house, street.first() + len(street)) + nearer
+    found, waiting = {stand}, [stand]
+    while waiting:
+        for _, (goal, _) in doors.there(*waiting.pop()):
+            if least <= goal[0] <= most and goal not in found:
+                found.add(goal)
+                waiting.append(goal)
+    return {house: tuple(room for room in doors.rooms(house) if (house, room) in found)
+            for house in range(low, high + 1)}
+
+
+def ring_sort(goals, out=1, more=()):
+    """A sort of rooms a, b .. with a door out from each to the one that goals has at its place, - for none."""
+    rooms = list(LETTERS[:len(goals)])
+    return Sort(rooms, [("o" + room, room, out, goal, 1) for room, goal in zip(rooms, goals) if goal != "-"]
+                + list(more))
+
+
+def alike(sort):
+    """A street all of whose houses are of one sort."""
+    return Street(sort, 0, [], sort)

@@ -11,7 +11,8 @@ from likehouses.errors import NoWay, TooMany
 from likehouses.rows import is_rows, row_read, rows_gone, unrolled
 from likehouses.streets import Sort, Street
 from likehouses.ways import played, price_of
-from tests.samples import NAMES, NO_NAMES, Doors, chance_street, houses_about, shape, things
+from tests.samples import (NAMES, NO_NAMES, Doors, any_things, chance_street, changed, houses_about, other_forms, shape,
+                           things)
 
 BIG = 10 ** 60
 FAR = 123456789012345678901234567890
@@ -41,28 +42,6 @@ def by_words(thing):
     return all(is_item(item, range(len(thing[0]))) for item in thing[1])
 
 
-def changed(thing, change):
-    """All things like this one with one part of it, or itself, changed: change tells what may stand for a part."""
-    yield from change(thing)
-    if isinstance(thing, (list, tuple)):
-        for k, part in enumerate(thing):
-            for other in changed(part, change):
-                yield type(thing)([*thing[:k], other, *thing[k + 1:]])
-
-
-def other_forms(thing):
-    """A list for a tuple, a tuple for a list, a part more, a part less, twice."""
-    if isinstance(thing, (list, tuple)):
-        kind = type(thing)
-        yield (list if kind is tuple else tuple)(thing)
-        yield dict(enumerate(thing))
-        yield kind([*thing, *thing])
-        yield kind([*thing, None])
-        for k in range(len(thing)):
-            yield kind([*thing[:k], *thing[k + 1:]])
-            yield kind([*thing[:k], thing[k], *thing[k:]])
-
-
 def other_numbers(thing):
     if type(thing) is int:
         yield from (0, 1, 2, 3, 4, 5, 6, -1, -2, True, False, BIG, BIG + 1, 2 * BIG, None, str(thing), [thing], (thing,))
@@ -72,10 +51,6 @@ def other_words(thing):
     if type(thing) is str:
         yield from ("left", "right", "Right", "other", "", "abcdefghi", "rights", ["left"], ("right",), 0, None, True)
         yield from NO_NAMES
-
-
-def any_things(_):
-    return things()
 
 
 PLAIN = ([("right", ["go", "go"]), ("left", ["out"]), ("right", [(0, 3), "go", (0, BIG)]), ("left", [(1, 2), "in"]),
