@@ -1,6 +1,6 @@
 """Which rooms can be come to, house by house, for ever."""
 
-from likehouses.plans import OUTWARD, Plan, how_far_out, nearest
+from likehouses.plans import OUTWARD, Plan, how_far_out, near_houses, nearest
 from likehouses.relations import led_to, relations_out, through
 from likehouses.stands import first_stand
 
@@ -8,8 +8,7 @@ from likehouses.stands import first_stand
 def _near_lots(street, stand, loops):
     """The lots of the houses from the left side to the right one, the stand's among them, by houses."""
     plan = Plan(street)
-    low = min(stand[0], nearest(street, "left"))
-    high = max(stand[0], nearest(street, "right"))
+    low, high = near_houses(street, stand[0])
     # Ways that lead further out and come back are told by the loops out.
     beyond = {low: loops["left"], high: loops["right"]}
     found = {stand: True}

@@ -24,6 +24,19 @@ def how_far_out(street, side, house):
     return OUTWARD[side] * (house - nearest(street, side))
 
 
+def place_of(street, house):
+    """The place of a house: the word left or right, or an odd house's number."""
+    for side in ("left", "right"):
+        if how_far_out(street, side, house) >= 0:
+            return side
+    return house
+
+
+def near_houses(street, house):
+    """The first and the last of the houses from the left side to the right one, a told house among them."""
+    return min(house, nearest(street, "left")), max(house, nearest(street, "right"))
+
+
 def alone(street, side):
     """A street all of whose houses are of a side's sort."""
     sort = street.left() if side == "left" else street.right()
@@ -38,6 +51,7 @@ class Plan:
         self._left = nearest(street, "left")
         self._right = nearest(street, "right")
         self._tables = {}
+        self._there = {}
 
     def _table(self, house):
         """The rooms of a house's sort, and its doors by their names."""
@@ -54,11 +68,15 @@ class Plan:
         return rooms
 
     def doors_from(self, stand):
-        """The doors that are there at a stand, rising by their names."""
+        """The doors that are there at a stand, rising by their names; not to be changed."""
         house, room = stand
-        _, doors = self._table(house)
-        return [door for door in list(doors.values())
-                if door[1] == room and door[3] in self.rooms_of(house + door[2])]
+        # From a side's second house on, the houses about each are of the side's sort.
+        near = min(max(house, self._left - 1), self._right + 1)
+        if (near, room) not in self._there:
+            _, doors = self._table(near)
+            self._there[near, room] = [door for door in list(doors.values())
+                                       if door[1] == room and door[3] in self.rooms_of(near + door[2])]
+        return self._there[near, room]
 
     def gone(self, stand, step):
         """The stand behind a step and the step's price, or NoStep."""

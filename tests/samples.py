@@ -1,5 +1,6 @@
 """What several tests are made of: things of every kind, names, sorts and streets."""
 
+import heapq
 import random
 import re
 
@@ -214,3 +215,101 @@ def ring_sort(goals, out=1, more=()):
 def alike(sort):
     """A street all of whose houses are of one sort."""
     return Street(sort, 0, [], sort)
+
+
+def linked_sort(chance, rooms, most_price=99):
+    """A sort with a ring of doors through all its rooms, and others by chance, in and out."""
+    order = chance.sample(rooms, len(rooms))
+    doors = [(room, chance.choice([0, 0, 1, -1]), order[k - 1]) for k, room in enumerate(order)]
+    doors += [(chance.choice(rooms), move, chance.choice(rooms)) for move in (1, -1)]
+    while len(doors) < chance.randint(8, 12):
+        doors.append((chance.choice(rooms), chance.choice([1, -1, 0]), chance.choice(rooms)))
+    return Sort(rooms, [("d" + LETTERS[k], room, move, goal, chance.randint(1, most_price))
+                        for k, (room, move, goal) in enumerate(doors[:12])])
+
+
+def linked_street(seed, most_odd=4, rooms=None):
+    """A street by chance, the same for the same seed, in which most stands can be come to from most others."""
+    chance = random.Random(seed)
+    names = list(LETTERS[:rooms or chance.randint(1, 6)])
+    most_price = chance.choice([2, 9, 99])
+    sorts = [linked_sort(chance, names, most_price) for _ in range(2 + chance.randint(0, most_odd))]
+    if chance.random() < 0.2:
+        sorts = [sorts[0]] * len(sorts)
+    return Street(sorts[0], chance.randint(-50, 50), sorts[1:-1], sorts[-1])
+
+
+def streets_and_stands(many):
+    """Streets by chance, each with a first stand: in the odd houses, about them, or anywhere."""
+    pairs = []
+    for seed in range(many):
+        chance = random.Random(seed)
+        street = linked_street(seed) if seed % 3 else chance_street(seed, rooms=5)
+        near = chance.randint(street.first() - 3, street.first() + len(street) + 2)
+        house = chance.choice([max(-60, min(60, near)), chance.randint(-60, 60), chance.choice([-60, 60])])
+        pairs.append((street, (house, chance.choice(street.sort_at(house).rooms()))))
+    return pairs
+
+
+def prices_found(street, stand, low, high):
+    """The least price of each stand that can be come to through houses low to high, by a search through all of these."""
+    doors, best, waiting = Doors(street), {stand: 0}, [(0, stand)]
+    while waiting:
+        price, here = heapq.heappop(waiting)
+        if price == best[here]:
+            for _, (goal, more) in doors.there(*here):
+                if low <= goal[0] <= high and price + more < best.get(goal, price + more + 1):
+                    best[goal] = price + more
+                    heapq.heappush(waiting, (price + more, goal))
+    return best
+
+
+class FarPrices:
+    """Least prices however far: of the first comings, as sums, from a search through the houses near by."""
+
+    def __init__(self, street, stand):
+        self.street = street
+        self.low = min(stand[0], street.first() - 1)
+        self.high = max(stand[0], street.first() + len(street))
+        self.near = prices_found(street, stand, self.low - 45, self.high + 45)
+        self.kept = {}
+
+    def comings(self, out):
+        """First comings and loops out of a side, from room to room, with their least prices."""
+        if out not in self.kept:
+            street = alike(self.street.right() if out > 0 else self.street.left())
+            rooms, loops, firsts = street.right().rooms(), {}, {}
+            for room in rooms:
+                found = prices_found(street, (0, room), min(0, 45 * out), max(0, 45 * out))
+                loops[room] = {goal: found[0, goal] for goal in rooms if (0, goal) in found}
+            for room in rooms:
+                for last, price in loops[room].items():
+                    for _, ((house, goal), more) in Doors(street).there(0, last):
+                        if house == out:
+                            firsts[room, goal] = min(firsts.get((room, goal), price + more), price + more)
+            self.kept[out] = (loops, firsts)
+        return self.kept[out]
+
+    def at(self, house, room):
+        """The least price of a stand, None where no way leads there."""
+        if self.low <= house <= self.high:
+            return self.near.get((house, room))
+        out, edge = (1, self.high) if house > self.high else (-1, self.low)
+        loops, square = self.comings(out)
+        row = {goal: price for (near, goal), price in self.near.items() if near == edge}
+        many = abs(house - edge)
+        while many:
+            if many % 2:
+                row = least_of((goal, row[start] + price) for (start, goal), price in square.items() if start in row)
+            square = least_of(((start, goal), price + more) for (start, amid), price in square.items()
+                              for (begin, goal), more in square.items() if begin == amid)
+            many //= 2
+        return least_of((goal, row[start] + price) for start in row for goal, price in loops[start].items()).get(room)
+
+
+def least_of(pairs):
+    """A dict of the least price of each."""
+    least = {}
+    for one, price in pairs:
+        least[one] = min(least.get(one, price), price)
+    return least
