@@ -18,8 +18,8 @@ def _is_part(thing, sides, side):
     return is_whole(times) and 1 <= times <= MOST_TIMES
 
 
-def _are_items(thing, sides, side):
-    """Whether it is a list of names and of such parts."""
+def are_items(thing, sides, side):
+    """Whether it is a list of names and of parts of rows with these sides, of one side alone (None: of any)."""
     if not isinstance(thing, list):
         return False
     return all([is_name(item) or _is_part(item, sides, side) for item in thing])
@@ -37,10 +37,10 @@ def is_rows(thing):
         if not is_tuple_of(row, 2):
             return False
         side, listed = row
-        if side not in ("left", "right") or not _are_items(listed, sides, side):
+        if side not in ("left", "right") or not are_items(listed, sides, side):
             return False
         sides.append(side)
-    return _are_items(way, sides, None)
+    return are_items(way, sides, None)
 
 
 # What is read is a tuple (room, shift, near, steps, price), or None where it

@@ -2,6 +2,7 @@
 
 from likehouses.bounds import FAR_FIRST, MOST_DOORS, MOST_ODD, MOST_PRICE, MOST_ROOMS
 from likehouses.errors import NoText
+from likehouses.figures import number_in
 from likehouses.kinds import is_name
 from likehouses.streets import Sort, Street
 
@@ -22,15 +23,6 @@ def show_street(street):
     for sort in street.odd():
         rows = rows + _house_rows("odd", sort)
     return "\n".join(rows + _house_rows("right", street.right()))
-
-
-def _number_in(word, low, high):
-    """The number that is so written, if it is one from low to high, else None."""
-    # Compared with the one right writing of each: a nought ahead, -0 and +1 are none.
-    for number in range(low, high + 1):
-        if word == str(number):
-            return number
-    return None
 
 
 def _rises(names, name):
@@ -59,7 +51,7 @@ class Draft:
     def _take_first(self, words):
         if len(words) != 1:
             return False
-        self._begin = _number_in(words[0], -FAR_FIRST, FAR_FIRST)
+        self._begin = number_in(words[0], -FAR_FIRST, FAR_FIRST)
         return self._begin is not None
 
     def _next_houses(self):
@@ -92,7 +84,7 @@ class Draft:
         if len(words) != 5 or len(doors) == MOST_DOORS:
             return False
         name, room, move, goal, price = words
-        door = (name, room, _number_in(move, -1, 1), goal, _number_in(price, 1, MOST_PRICE))
+        door = (name, room, number_in(move, -1, 1), goal, number_in(price, 1, MOST_PRICE))
         if not _rises([other[0] for other in doors], name) or room not in rooms or not is_name(goal):
             return False
         if door[2] is None or door[4] is None:
