@@ -7,7 +7,7 @@ from likehouses.plans import Plan, how_far_out, near_houses, place_of
 from likehouses.stands import first_stand, is_stand
 
 
-class Open:
+class OpenDoors:
     """The doors that are there and lead into no shunned room."""
 
     def __init__(self, street, shun):
@@ -41,7 +41,7 @@ class Open:
 def _open_and_begin(street, stand, shun):
     """The open doors and the first stand, or TooFar, or Shunned."""
     begin = first_stand(stand)
-    doors = Open(street, shun)
+    doors = OpenDoors(street, shun)
     if doors.shuns(begin):
         raise Shunned(begin)
     return doors, begin

@@ -25,7 +25,7 @@ def _act_rows(act):
     if act[0] == "leap":
         rows, listed = act[1]
         many = len(rows)
-        return ([f"leap {many}"] + [_row_of(["row", side], row) for side, row in rows] + [_row_of(["way"], listed)])
+        return [f"leap {many}"] + [_row_of(["row", side], row) for side, row in rows] + [_row_of(["way"], listed)]
     return [" ".join([str(part) for part in act])]
 
 
@@ -47,7 +47,7 @@ def _item_of(word):
 
 
 def _items_of(words, sides, side):
-    """The items that are so written, of rows with these sides, of one side (None: of any), or None where one is wrong."""
+    """The items that are so written, as are_items looks at them, or None where one is wrong."""
     listed = [_item_of(word) for word in words]
     if not are_items(listed, sides, side):
         return None
