@@ -21,7 +21,7 @@ def _refuse_missing(street, doors):
         walled(street, place, name)
 
 
-def _walled_by(street, doors, lot):
+def _changed_by(street, doors, lot):
     """The street with the doors of a lot walled."""
     for k in lot:
         place, name = doors[k]
@@ -36,7 +36,7 @@ def _barring(street, stand, other, doors):
     for lot in _all_lots(len(doors)):
         # A door walled gives none: what bars does so with more doors, too.
         less = [told[lot[:at] + lot[at + 1:]] for at in range(len(lot))]
-        told[lot] = any(less) or room not in rooms_at(_walled_by(street, doors, lot), stand, house)
+        told[lot] = any(less) or room not in rooms_at(_changed_by(street, doors, lot), stand, house)
     return told
 
 
@@ -60,7 +60,7 @@ def lot_paper(street, stand, other, doors, lot):
     """A fence that shows that a lot bars the other stand, or a way in rows that shows that it doesn't."""
     begin = first_stand(stand)
     _refuse_missing(street, doors)
-    changed = _walled_by(street, doors, lot)
+    changed = _changed_by(street, doors, lot)
     told = way_to(changed, begin, other)
     if told is None:
         return "bars", fence(changed, begin)
@@ -83,7 +83,7 @@ def lot_holds(street, stand, other, doors, lot, thing):
     """Whether a thing, of anything, is such a paper of a lot, and holds."""
     begin = first_stand(stand)
     _refuse_missing(street, doors)
-    changed = _walled_by(street, doors, lot)
+    changed = _changed_by(street, doors, lot)
     if not is_tuple_of(thing, 2):
         return False
     word, shown = thing

@@ -120,19 +120,19 @@ def _side_holds(doors, edge, pieces):
     if not all([room in doors for _, rows, _ in pieces for row in rows for room in row]):
         return False
     near = [edge]
-    for piece in pieces:
-        times, _, more = piece
+    # What is between a piece's first two and its last two times lies evenly between these.
+    for piece in pieces[:-1]:
+        times, _, _ = piece
         near.extend(_row_at(piece, 0))
-        if times != 1:
+        if times > 1:
             near.extend(_row_at(piece, 1))
-        # What is between its first two and its last two times lies evenly between these.
-        if times is None or times > 2:
+        if times > 2:
             if not _houses_hold(doors, near):
                 return False
-            if times is None:
-                return _growth_holds(doors, more)
             near = _row_at(piece, times - 2) + _row_at(piece, times - 1)
-    return True
+    _, _, more = pieces[-1]
+    near = near + _row_at(pieces[-1], 0) + _row_at(pieces[-1], 1)
+    return _houses_hold(doors, near) and _growth_holds(doors, more)
 
 
 def _stretch_holds(plan, thing):

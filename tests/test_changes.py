@@ -225,6 +225,13 @@ class Moved(Asked):
             self.assertEqual(moved(street, 50 - first).first(), 50)
             self.assertEqual(moved(street, -50 - first).first(), -50)
 
+    def test_just_the_kinds_whatever_is_handed_in(self):
+        class Number(int):
+            pass
+
+        self.assertIs(type(moved(odd_street(0, 2), Number(3)).first()), int)
+        self.refuse(TooFar, {"house": 51}, moved, odd_street(0, 2), Number(51))
+
     def test_there_and_back(self):
         for street in streets()[::4]:
             by = -street.first()

@@ -28,6 +28,11 @@ METHODS = set("""append clear copy count endswith extend find get index insert i
     setdefault split splitlines startswith strip update upper values zfill bit_length add discard""".split())
 WHOLE_LISTS = {"any", "all", "min", "max", "sum", "sorted"}
 BARRED = (ast.AsyncFunctionDef, ast.AsyncFor, ast.AsyncWith, ast.Await, ast.Import)
+BARRED_NAMES = re.compile(r"_(wall|pe_|dcw_|enum_|cm_|twin_re_|lay_|law_|stub_|sre|WallAttr)"
+                          r"|_(cold|tuplegetter|outside|record|written_out|member_names)[0-9_]*\Z"
+                          r"|(register|mro|elements|open|input|law|version_info|with_traceback|add_note|attrgetter|breakpoint"
+                          r"|compile|delattr|dir|eval|exec|exit|gc|globals|help|id|importlib|license|locals|methodcaller|os|quit"
+                          r"|vars|sys)\Z")
 BARRED_WORDS = re.compile(r"\b(type|typing|enum|Enum|Generic|Protocol|ABC|namedtuple|NamedTuple|_wall|_WallAttr)\b"
                           r"|dataclass|overload|contextmanager")
 
@@ -124,7 +129,12 @@ class Language(unittest.TestCase):
             bound = list(bound_names(tree))
             self.assertEqual([one for one in bound if one in taken], [], name)
             self.assertEqual([one for one in bound if not re.fullmatch(r"_?[A-Za-z][A-Za-z0-9_]*|_", one)], [], name)
-            self.assertEqual([one for one in bound if BARRED_WORDS.search(one)], [], name)
+            self.assertEqual([one for one in bound if BARRED_WORDS.search(one) or BARRED_NAMES.match(one)], [], name)
+
+    def test_what_is_not_asked_for_is_not_read(self):
+        for name, tree in trees():
+            read = [node.id for node in ast.walk(tree) if isinstance(node, ast.Name) and isinstance(node.ctx, ast.Load)]
+            self.assertNotIn("_", read, name)
 
     def test_no_other_builtin_is_used(self):
         for name, tree in trees():

@@ -20,7 +20,7 @@ from tests.samples import (alike, any_things, changed, linked_street, lists_and_
 HUGE = 123456789012345678901234567890
 FAR = 10 ** 12 - 1
 ONE = Sort(["a"], [("in", "a", -1, "a", 1), ("out", "a", 1, "a", 2)])
-TWO = Sort(["a"], [("in", "a", -1, "a", 1), ("out", "a", 1, "a", 2), ("oute", "a", 1, "a", 3)])
+TWO = Sort(["a", "b"], [("in", "a", -1, "a", 1), ("out", "a", 1, "a", 2), ("oute", "a", 1, "a", 3)])
 
 
 def all_lots(many):
@@ -64,7 +64,7 @@ def asked(many=40, most=6):
 
 
 def one_road():
-    """From the left side by an odd house to the right one; two doors in the odd house lead out."""
+    """From the left side by an odd house to the right one; two doors in the odd house lead out. No way leads to room b."""
     return Street(ONE, 0, [TWO], ONE)
 
 
@@ -101,6 +101,14 @@ class Lots(unittest.TestCase):
                  ([(0,), (1,), (2, 3)], [(2, 4, 5), (3, 4, 5)])),
                 ((("left", "out"), ("right", "out")), ([(0,), (1,)], [()]))):
             self.ask(street, stand, other, doors, told)
+
+    def test_two_roads_one_of_two_doors(self):
+        odd = Sort(["a", "b"], [("direct", "a", 1, "a", 1), ("up", "a", 0, "b", 1), ("on", "b", 1, "a", 1)])
+        street = Street(ONE, 0, [odd], ONE)
+        for doors, told in (([(0, "up"), (0, "direct"), (0, "on")], ([(0, 1), (1, 2)], [(0, 2), (1,)])),
+                            ([(0, "direct"), (0, "up"), (0, "on")], ([(0, 1), (0, 2)], [(0,), (1, 2)])),
+                            ([(0, "up"), ("left", "in"), (0, "on"), (0, "direct")], ([(0, 3), (2, 3)], [(0, 1, 2), (1, 3)]))):
+            self.ask(street, (-2, "a"), (5, "a"), doors, told)
 
     def test_a_stand_that_cannot_be_come_to(self):
         street = Street(ONE, 0, [Sort(["a"], [])], ONE)
@@ -143,10 +151,11 @@ class Refused(unittest.TestCase):
                                   (("right", None), None), (("right", 5), 5), (("nowhere", "never"), "nowhere"), (([], {}), [])):
             for doors in ([wrong], good + [wrong], [wrong] + good, good[:1] + [wrong] + good[1:], tuple(good + [wrong]),
                           [wrong, ("else", "where")], good + [wrong, (9, "out")]):
-                for one, more in self.asked_for():
-                    with self.assertRaises(NoName) as caught:
-                        one(street, (0, "a"), (3, "a"), doors, *more)
-                    self.assertEqual(shape(vars(caught.exception)), shape({"asked": asked_name}))
+                for other in ((3, "a"), (0, "b"), (0, "a")):
+                    for one, more in self.asked_for():
+                        with self.assertRaises(NoName) as caught:
+                            one(street, (0, "a"), other, doors, *more)
+                        self.assertEqual(shape(vars(caught.exception)), shape({"asked": asked_name}))
 
     def test_a_first_stand_beyond_goes_ahead_of_all_else(self):
         for house in (61, -61, FAR, -FAR, HUGE):

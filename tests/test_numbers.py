@@ -228,6 +228,62 @@ class Told(unittest.TestCase):
                 self.assertEqual(number_at(told, house, "b"), begin + fast * house)
                 self.assertEqual(number_at(told, house, "a"), min(slow * out, begin + fast * house + 7))
 
+    def test_roads_by_chance(self):
+        # Of several roads, some with rings, each is the cheapest one for some while.
+        long = 0
+        rooms = list("abcdef")
+        for seed in range(60):
+            chance = random.Random(seed)
+            rings = chance.choice([["a", "bc", "def"], ["ab", "cde", "f"], ["a", "b", "cd", "ef"], ["abc", "def"], ["ab", "cd", "ef"]])
+            doors = [(room, 1, (ring * 2)[at + 1], 60 - k + chance.randint(-1, 1)) for k, ring in enumerate(rings)
+                     for at, room in enumerate(ring)]
+            doors += [(chance.choice(rings[k]), 0, chance.choice(rings[k + 1]), 99) for k in range(len(rings) - 1)]
+            while len(doors) < chance.randint(8, 12):
+                doors.append((chance.choice(rooms), chance.choice([0, 1]), chance.choice(rooms), 99))
+            sort = Sort(rooms, [("d" + "abcdefghijkl"[k], *door) for k, door in enumerate(doors)])
+            out = chance.choice([-1, 1])
+            turned = Sort(rooms, [(name, room, out * move, goal, price) for name, room, move, goal, price in sort.doors()])
+            told = numbers_of(alike(turned), (0, "a"))
+            self.assertIs(are_numbers(alike(turned), (0, "a"), told), True)
+            long += any(times is not None and times > 2 for times, _, _ in told[2] + told[3])
+            row = self.within(sort, {"a": 0})
+            for house in range(1500):
+                for room in rooms:
+                    self.assertEqual(number_at(told, out * house, room), row.get(room), (seed, house))
+                row = self.further_out(sort, row)
+        self.assertGreater(long, 5)
+
+    def within(self, sort, row):
+        """Least prices of a house, its doors within it gone, too."""
+        row = dict(row)
+        for _ in range(6):
+            for _, room, move, goal, price in sort.doors():
+                if move == 0 and room in row:
+                    row[goal] = min(row.get(goal, row[room] + price), row[room] + price)
+        return row
+
+    def further_out(self, sort, row):
+        """Least prices of the next house out, no door leading in."""
+        there = {}
+        for _, room, move, goal, price in sort.doors():
+            if move == 1 and room in row:
+                there[goal] = min(there.get(goal, row[room] + price), row[room] + price)
+        return self.within(sort, there)
+
+    def test_roads_that_cross_one_after_the_other(self):
+        # Ever cheaper roads, each dearer to come to; all three rooms' numbers change their roads at unlike houses.
+        for ups in ((50, 99), (99, 7), (90, 91), (3, 99)):
+            for slow in (9, 31, 80):
+                sort = Sort(list("abc"), [("oa", "a", 1, "a", slow + 2), ("ob", "b", 1, "b", slow + 1), ("oc", "c", 1, "c", slow),
+                                          ("ab", "a", 0, "b", ups[0]), ("bc", "b", 0, "c", ups[1]), ("cb", "c", 0, "b", 60),
+                                          ("ba", "b", 0, "a", 33)])
+                told = numbers_of(alike(sort), (0, "a"))
+                self.assertIs(are_numbers(alike(sort), (0, "a"), told), True)
+                row = self.within(sort, {"a": 0})
+                for house in range(700):
+                    self.assertEqual([number_at(told, house, room) for room in "abc"], [row[room] for room in "abc"])
+                    row = self.further_out(sort, row)
+
     def test_rings(self):
         for goals, many in (("a", 1), ("ba", 2), ("bca", 3), ("bcda", 4), ("bcdea", 5), ("bcdefa", 6), ("bacdef", 2)):
             for out in (-1, 1):
@@ -431,7 +487,9 @@ class Looked(unittest.TestCase):
         first, stretch, left, right = self.zeros(-1, 3)
         for rows, more in (([{"a": 0}], []), ([{"a": 0}], [{"a": 0}] * 2), ([{"a": 0}] * 2, [{"a": 0}]), ([], []),
                            ([{"a": 0}], [{}]), ([{"a": 0}], [{"a": 0, "b": 0}]), ([{"a": 0}], [{"b": 0}]),
-                           ([{"a": 0}, {}], [{}, {"a": 0}])):
+                           ([{"a": 0}, {}], [{}, {"a": 0}]), ([{"a": 0}, {"a": 0}], [{"a": 0}, {}]),
+                           ([{"a": 0}, {"a": 0}], [{}, {"a": 0}]), ([{"a": 0}, {}], [{"a": 0}, {"a": 0}]),
+                           ([{}, {"a": 0}], [{"a": 0}, {"a": 0}])):
             for times in (1, 5, None):
                 for pieces in ([(times, rows, more)], [(times, rows, more)] + left):
                     self.ask((first, stretch, pieces, right), False)
