@@ -1,6 +1,5 @@
 """Whether one can go on for ever from a first stand, where some rooms are shunned."""
 
-from likehouses.bounds import MOST_ROOMS
 from likehouses.errors import Shunned
 from likehouses.kinds import is_name, is_tuple_of, is_whole
 from likehouses.plans import Plan, how_far_out, near_houses, place_of
@@ -82,7 +81,7 @@ def _going_out(stands, way, edge):
     met = {}
     # Once a house is left for the last time, the way is further out. In some
     # two of these houses it is so left from the same room.
-    for k in range(MOST_ROOMS + 1):
+    for k in range(abs(end - edge) + 1):
         at = last[edge + out * k]
         _, room = stands[at]
         if room in met:
@@ -128,8 +127,9 @@ def for_ever(street, stand, *, shun=None):
     """A way and a round that can be gone again and again; or stands with numbers that fall by every door."""
     doors, begin = _open_and_begin(street, stand, shun)
     low, high = near_houses(street, begin[0])
-    edges = {low - MOST_ROOMS: low, high + MOST_ROOMS: high}
-    onward, ahead = _explored(doors, begin, low - MOST_ROOMS, high + MOST_ROOMS)
+    least, most = low - len(street.left().rooms()), high + len(street.right().rooms())
+    edges = {least: low, most: high}
+    onward, ahead = _explored(doors, begin, least, most)
     for end in ahead:
         if end[0] in edges:
             stands, way = _way_to(ahead, end)

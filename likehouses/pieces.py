@@ -1,13 +1,7 @@
 """Pieces: least prices of all houses out on a side, told in rounds that grow evenly."""
 
+from likehouses.bounds import MOST_ROUND
 from likehouses.prices import led_on
-
-# How long the rounds are that are tried. In the end least prices come again,
-# but for what is added, by a number that is the least common multiple of at
-# most six numbers whose sum is at most six; and on the way there, since no
-# round of rooms is longer than six, by one that 1 to 6 all divide.
-_LENGTHS = (1, 2, 3, 4, 5, 6, 60)
-_LONGEST = 60
 
 
 def _rows_behind(row, prices, many):
@@ -61,15 +55,26 @@ def _how_long(piece):
     return times * len(rows)
 
 
+def _may_go_on(rows, many):
+    """Whether rounds of so many rows look as if they went on for more than two times."""
+    now, then, later = rows[0], rows[many], rows[2 * many]
+    if not sorted(now) == sorted(then) == sorted(later):
+        return False
+    return all([later[room] - then[room] == then[room] - now[room] for room in now])
+
+
 def _longest_piece(row, prices):
-    """The piece behind a row of prices that goes furthest, the shortest of those that go on for ever."""
-    rows = _rows_behind(row, prices, 2 * _LONGEST)
+    """The piece behind a row of prices that goes furthest; the shortest of those that go on for ever."""
+    rows = _rows_behind(row, prices, 2 * MOST_ROUND + 1)
     pieces = []
-    for many in _LENGTHS:
-        piece = _piece(rows, many, prices)
-        if piece[0] is None:
-            return piece
-        pieces.append(piece)
+    for many in range(1, MOST_ROUND + 1):
+        # Least prices come again by rings of one to six rooms, and all of these
+        # go into the last of the lengths: it is tried in any case.
+        if many == MOST_ROUND or _may_go_on(rows, many):
+            piece = _piece(rows, many, prices)
+            if piece[0] is None:
+                return piece
+            pieces.append(piece)
     return max(pieces, key=_how_long)
 
 

@@ -8,13 +8,6 @@ from heapq import heappop, heappush
 
 from likehouses.plans import OUTWARD, Plan, alone, near_houses
 
-# A cheapest loop out goes no further out than this. In each house between it
-# has a pair of rooms: where it is last ahead of its furthest house, and where
-# it is first behind that. There are six times six such pairs, and of two houses
-# with the same pair one could be left out, with all that lies between them.
-_FURTHEST_OUT = 36
-
-
 def least_found(plan, stand, low, high):
     """Of each stand that ways through houses low to high come to: (price, the stand ahead, the step from there)."""
     found = {stand: (0, None, None)}
@@ -41,10 +34,20 @@ def way_found(found, stand):
     return way[::-1]
 
 
+def _furthest_out(rooms):
+    """How many houses out a cheapest loop out goes at the most, in a sort of these rooms."""
+    # In each house between it has a pair of rooms: where it is last ahead of
+    # its furthest house, and where it is first behind that. Of two houses with
+    # the same pair one could be left out, with all that lies between them.
+    return len(rooms) * len(rooms)
+
+
 def near_found(street, stand):
     """What is found of a first stand, right for the houses that are told: (low, high, found)."""
     low, high = near_houses(street, stand[0])
-    return low, high, least_found(Plan(street), stand, low - _FURTHEST_OUT, high + _FURTHEST_OUT)
+    plan = Plan(street)
+    least, most = low - _furthest_out(plan.rooms_of(low - 1)), high + _furthest_out(plan.rooms_of(high + 1))
+    return low, high, least_found(plan, stand, least, most)
 
 
 def row_found(found, house, rooms):
@@ -54,7 +57,7 @@ def row_found(found, house, rooms):
 
 def _loops_from(plan, out, room):
     """The cheapest loops out from a room of house 0, by the rooms where they end: (price, way)."""
-    low, high = sorted([0, out * _FURTHEST_OUT])
+    low, high = sorted([0, out * _furthest_out(plan.rooms_of(0))])
     found = least_found(plan, (0, room), low, high)
     return {goal: (found[0, goal][0], way_found(found, (0, goal)))
             for goal in plan.rooms_of(0) if (0, goal) in found}
