@@ -27,11 +27,12 @@ def number_at(numbers, house, room):
         return _number_in(stretch[at], {}, 0, room)
     pieces, further = (left, -1 - at) if at < 0 else (right, at - len(stretch))
     for times, rows, more in pieces:
+        # The last piece goes on for ever.
         if times is None or further < times * len(rows):
-            time, place = divmod(further, len(rows))
-            return _number_in(rows[place], more[place], time, room)
+            break
         further = further - times * len(rows)
-    return None
+    time, place = divmod(further, len(rows))
+    return _number_in(rows[place], more[place], time, room)
 
 
 def numbers_of(street, stand):

@@ -46,7 +46,8 @@ def near_found(street, stand):
     """What is found of a first stand, right for the houses that are told: (low, high, found)."""
     low, high = near_houses(street, stand[0])
     plan = Plan(street)
-    least, most = low - _furthest_out(plan.rooms_of(low - 1)), high + _furthest_out(plan.rooms_of(high + 1))
+    # Both are houses of their sides.
+    least, most = low - _furthest_out(plan.rooms_of(low)), high + _furthest_out(plan.rooms_of(high))
     return low, high, least_found(plan, stand, least, most)
 
 

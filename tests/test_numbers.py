@@ -220,7 +220,10 @@ class Told(unittest.TestCase):
             street, stand = Street(left, 0, [], right), (60, "a")
             told = numbers_of(street, stand)
             self.assertIs(are_numbers(street, stand, told), True)
-            self.assertLess(len(told[3]), 20)
+            self.assertLess(len(told[3]), 6)
+            self.assertIs(told[3][-1][0], None)
+            self.assertEqual(len(told[3][-1][1]), 1)
+            self.assertLess(sum(len(rows) for _, rows, _ in told[3]), 200)
             begin = 61 * 99 + 99 + 99
             turning = (begin + 60 * fast + 7) // (slow - fast)
             for out in (1, 2, 500, turning - 1, turning, turning + 1, turning + 60, turning + 61, 10 ** 9, 10 ** 30):
@@ -290,6 +293,8 @@ class Told(unittest.TestCase):
                 street = alike(ring_sort(goals, out=out))
                 told = numbers_of(street, (0, "a"))
                 self.assertIs(are_numbers(street, (0, "a"), told), True)
+                # Told shortly: of no more rows than come again.
+                self.assertEqual([(times, len(rows)) for times, rows, _ in told[3 if out > 0 else 2]], [(None, many)])
                 for houses in (0, 1, 2, 3, 4, 5, 6, 7, 59, 60, 61, 119, 120, 121, 1000, 10 ** 20, 10 ** 20 + 1):
                     for k, room in enumerate(street.left().rooms()):
                         price = houses if k < many and houses % many == k else None
